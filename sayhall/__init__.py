@@ -1,0 +1,1 @@
+"""Sayhall: sayings by yes and no, and what must be so."""
