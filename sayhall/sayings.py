@@ -49,9 +49,13 @@ def is_so(part, case):
     return case[abs(part) - 1] == (1 if part > 0 else 0)
 
 
+def holds(saying, case):
+    return any([is_so(part, case) for part in saying])
+
+
 def all_true(sayings, case):
     for saying in sayings:
-        if not any([is_so(part, case) for part in saying]):
+        if not holds(saying, case):
             return False
     return True
 
@@ -61,3 +65,13 @@ def fits(sayings, many, case):
     if not is_case(case, many):
         raise NoCase("a case must be a list of 0 and 1, one for each thing")
     return all_true(good, case)
+
+
+# None stands for what is no saying: another thing would be in it in two ways.
+def put_together(one, other, thing):
+    parts = {}
+    for part in one + other:
+        if -part in parts and abs(part) != thing:
+            return None
+        parts[part] = True
+    return tuple(sorted([part for part in parts if abs(part) != thing], key=abs))

@@ -2,18 +2,9 @@ import copy
 import itertools
 import unittest
 
-from anything import HUGE, Unwilling, oddities
+from helper import fitting_by_hand, refused, samples
 from sayhall.cases import cases, settled
 from sayhall.errors import Clash, NoSayings
-
-
-def fitting_by_hand(sayings, many):
-    """All cases that fit, told straight from the words of the document."""
-    return [
-        list(case)
-        for case in itertools.product((0, 1), repeat=many)
-        if all(any((case[abs(part) - 1] == 1) == (part > 0) for part in saying) for saying in sayings)
-    ]
 
 
 def settled_by_hand(sayings, many):
@@ -24,43 +15,6 @@ def settled_by_hand(sayings, many):
         if len(seen) == 1:
             told.append(thing if seen == {1} else -thing)
     return told
-
-
-def all_sayings_of(many):
-    """Every saying of so many things."""
-    found = []
-    for ways in itertools.product((0, 1, -1), repeat=many):
-        found.append(tuple(way * thing for thing, way in enumerate(ways, 1) if way))
-    return found
-
-
-def samples():
-    """Every pair of sayings of two things, every triple of three things, and some larger ones."""
-    for pair in itertools.product(all_sayings_of(2), repeat=2):
-        yield list(pair), 2
-    for triple in itertools.combinations(all_sayings_of(3), 3):
-        yield list(triple), 3
-    yield [(1, 2, -5), (-1, 3), (-2, 4, 5), (-3, -4), (2,)], 5
-    yield [(thing, thing + 1) for thing in range(1, 10)], 10
-    yield [(-thing, thing + 1) for thing in range(1, 16)], 16
-    yield [(thing if thing % 3 else -thing,) for thing in range(1, 17)], 16
-    yield [(-1, 16), (1, -16), (8,), (2, 3, 4, 5, 6, 7)] * 6, 16
-
-
-def refused():
-    """What both of this file's functions must refuse with NoSayings."""
-    for sayings in [
-        None, (), ((1,),), "", {}, [[1]], [(2, 1)], [(1, 1)], [(1, -1)], [(0,)], [(4,)], [(True,)], [("1",)],
-        [(1,), None], [(1,)] * 25, [()] * 25, [(1,), Unwilling()], Unwilling(),
-    ]:
-        yield sayings, 3
-    for many in [0, -1, 17, HUGE, True, None, "3", 3.0, [3]]:
-        yield [], many
-        yield [()], many
-    for thing in oddities().values():
-        yield thing, 3
-        yield [thing], 3
-        yield [], thing
 
 
 class AllCases(unittest.TestCase):

@@ -27,6 +27,12 @@ UNUSED_WORDS = re.compile(
     r"\b(type|typing|typing_extensions|enum|Enum|IntEnum|StrEnum|Flag|IntFlag|Generic|Protocol|ABC|ABCMeta"
     r"|namedtuple|NamedTuple|TypedDict|TYPE_CHECKING|abstractmethod)\b|dataclass|overload|contextmanager"
 )
+KEYWORDS = {
+    "sorted": {"key", "reverse"}, "min": {"key", "default"}, "max": {"key", "default"}, "sum": {"start"},
+    "enumerate": {"start"}, "zip": {"strict"},
+}
+WALKERS = {"list", "tuple", "dict", "sorted", "sum", "any", "all", "enumerate", "zip"}
+FREE_VALUES = set("count index title find get join lower upper split strip copy add".split())
 UNUSED_FILES = {"test", "tests", "testing", "site", "conftest", "sitecustomize", "usercustomize"}
 
 ALLOWED_NODES = (
@@ -102,9 +108,77 @@ def class_faults(node):
 
 
 def call_faults(node):
-    if isinstance(node.func, ast.Attribute) and node.func.attr not in OWN_METHODS | {"__init__"}:
-        return [f"L25 method {node.func.attr}"]
-    return []
+    if is_call_of(node, OWN_NAMES):
+        allowed = KEYWORDS.get(node.func.id, set())
+    elif isinstance(node.func, ast.Attribute) and node.func.attr in OWN_METHODS:
+        allowed = set()
+    else:
+        return []
+    return [] if all(keyword.arg in allowed for keyword in node.keywords) else ["L22 keyword"]
+
+
+def method_names(tree):
+    """Names of the methods that the classes of a file have."""
+    kinds = [node for node in ast.walk(tree) if isinstance(node, ast.ClassDef)]
+    return {part.name for kind in kinds for part in kind.body if isinstance(part, ast.FunctionDef)}
+
+
+def value_names(tree):
+    """Names of the values that objects are given in a file."""
+    return {node.attr for node in ast.walk(tree) if isinstance(node, ast.Attribute) and isinstance(node.ctx, ast.Store)}
+
+
+def attribute_faults(tree, methods):
+    """The methods are those of all the package's classes: an object may be used far from its class."""
+    faults = []
+    called = {id(node.func) for node in ast.walk(tree) if isinstance(node, ast.Call)}
+    for node in ast.walk(tree):
+        if isinstance(node, ast.Attribute):
+            if id(node) in called and node.attr not in OWN_METHODS | methods | {"__init__"}:
+                faults.append(f"L25 method {node.attr}")
+            if id(node) not in called and node.attr in OWN_METHODS | methods:
+                faults.append(f"L25 method {node.attr} handed on")
+    pythons = {name for kind in (str, int, list, dict, set, bytes) for name in dir(kind)}
+    free = OWN_METHODS | {"add", "discard", "__init__", "__eq__", "__repr__", "__str__", "__len__"}
+    faults += [f"L26 method {name}" for name in sorted(method_names(tree) & pythons - free)]
+    faults += [f"L26 value {name}" for name in sorted(value_names(tree) & pythons - FREE_VALUES)]
+    return faults + [f"L18 method and value {name}" for name in sorted(methods & value_names(tree))]
+
+
+def parents_of(tree):
+    return {id(child): node for node in ast.walk(tree) for child in ast.iter_child_nodes(node)}
+
+
+def is_call_of(node, names):
+    return isinstance(node, ast.Call) and isinstance(node.func, ast.Name) and node.func.id in names
+
+
+def is_walked_at_once(node, above):
+    if isinstance(above, (ast.For, ast.comprehension)):
+        return above.iter is node
+    if is_call_of(above, WALKERS):
+        return above.args[0] is node or above.func.id == "zip"
+    if is_call_of(above, {"min", "max"}):
+        return above.args == [node]
+    return isinstance(above, ast.Call) and isinstance(above.func, ast.Attribute) and above.func.attr == "join"
+
+
+def walk_faults(tree):
+    faults = []
+    above = parents_of(tree)
+    for node in ast.walk(tree):
+        views = isinstance(node, ast.Call) and isinstance(node.func, ast.Attribute)
+        views = views and node.func.attr in {"items", "keys", "values"}
+        if views or is_call_of(node, {"zip", "enumerate", "reversed", "range"}):
+            if not is_walked_at_once(node, above[id(node)]):
+                faults.append(f"L23 row {node.lineno}")
+        if is_call_of(node, {"set", "frozenset"}):
+            outer = above[id(node)]
+            while isinstance(outer, ast.BinOp):
+                outer = above[id(outer)]
+            if not isinstance(outer, ast.Compare) and not (is_call_of(outer, {"sorted", "len"}) and not outer.keywords):
+                faults.append(f"L24 row {node.lineno}")
+    return faults
 
 
 def is_faults(node):
@@ -180,9 +254,10 @@ def name_faults(tree):
     return faults
 
 
-def faults_of(text):
+def faults_of(text, methods=frozenset()):
     tree = ast.parse(text)
     faults = text_faults(text) + top_faults(tree) + name_faults(tree)
+    faults += attribute_faults(tree, methods | method_names(tree)) + walk_faults(tree)
     for node in ast.walk(tree):
         if not isinstance(node, ALLOWED_NODES) or isinstance(node, UNUSED_NODES):
             faults.append(f"L6 or L7 {node.__class__.__name__}")
@@ -211,9 +286,11 @@ class Language(unittest.TestCase):
                     self.assertFalse(path.stem.startswith("test_") or hasattr(builtins, path.stem))
 
     def test_each_file_keeps_the_rules(self):
-        for path in package_files():
-            with self.subTest(path=path.name):
-                self.assertEqual(faults_of(path.read_text(encoding="utf-8")), [])
+        texts = {path.name: path.read_text(encoding="utf-8") for path in package_files()}
+        methods = set().union(*[method_names(ast.parse(text)) for text in texts.values()])
+        for name, text in texts.items():
+            with self.subTest(path=name):
+                self.assertEqual(faults_of(text, methods), [])
 
     def test_no_two_files_draw_from_one_another(self):
         left = {path.stem: drawn_from(path) for path in package_files()}
@@ -227,6 +304,32 @@ class Language(unittest.TestCase):
 class TheCheckItself(unittest.TestCase):
     def test_good_text_has_no_faults(self):
         self.assertEqual(faults_of('"""Words."""\n\nMOST = 3\n\n\ndef least(xs):\n    return min(xs, default=MOST)\n'), [])
+
+    def test_own_methods(self):
+        text = "class A:\n    def __init__(self):\n        self.x = 1\n\n    def way(self):\n        return self.x\n"
+        self.assertEqual(faults_of(text), [])
+        self.assertEqual(faults_of("def f(a):\n    return a.way()\n", {"way"}), [])
+        self.assertNotEqual(faults_of("def f(a):\n    return a.way()\n"), [])
+        self.assertNotEqual(faults_of("def f(a):\n    return a.way\n", {"way"}), [])
+        self.assertNotEqual(faults_of("class A:\n    def __init__(self):\n        self.way = 1\n", {"way"}), [])
+        self.assertNotEqual(faults_of("class A:\n    def __init__(self):\n        self.items = 1\n"), [])
+        self.assertNotEqual(faults_of("class A:\n    def sort(self):\n        return 1\n"), [])
+
+    def test_sets_and_what_is_walked(self):
+        for value in [
+            "sorted(set(a))", "len(set(a) | set(b))", "a in set(b)", "set(a) == set(b)", "list(range(a))",
+            "[x for x in zip(a, b)]", "dict(zip(a, b))", "max(a.values())", "', '.join(a.keys())",
+            "list(enumerate(zip(a, b)))",
+        ]:
+            with self.subTest(value=value):
+                self.assertEqual(faults_of(f"def f(a, b):\n    return {value}\n"), [])
+        for value in [
+            "set(a)", "sorted(set(a), key=abs)", "list(set(a))", "[x for x in set(a)]", "range(a)", "zip(a, b)",
+            "a.items()", "list(reversed(range(a)))", "f(range(a))", "min(range(a), range(b))",
+            "sorted(a, start=1)", "int(x=a)", "a.split(maxsplit=1)",
+        ]:
+            with self.subTest(value=value):
+                self.assertNotEqual(faults_of(f"def f(a, b):\n    return {value}\n"), [])
 
     def test_bad_texts_have_faults(self):
         for text in [

@@ -2,7 +2,7 @@ import copy
 import itertools
 import unittest
 
-from anything import HUGE, Unwilling, oddities
+from helper import HUGE, Unwilling, all_cases, oddities
 from sayhall.errors import NoCase, NoSayings
 from sayhall.sayings import checked, fits, is_case, is_saying
 
@@ -12,10 +12,6 @@ WRONG_SAYINGS = [
     [(1,), [2], (2,)], [(1,), (2, 1)], [(1, 1)], [(1, -1)], [(0,)], [(4,)], [(-4,)], [(True,)], [("1",)],
     [(1.0,)], [None], [1], ["1"], [()] * 25, [(1,)] * 25, [(1,)] * 24 + [None], [(1,), Unwilling()], [(HUGE,)],
 ]
-
-
-def all_cases(many):
-    return [list(case) for case in itertools.product((0, 1), repeat=many)]
 
 
 class IsSaying(unittest.TestCase):
