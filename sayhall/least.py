@@ -2,7 +2,7 @@
 
 from sayhall.clashes import fitting_case
 from sayhall.errors import Fits, NoThing
-from sayhall.sayings import checked, is_whole, put_together
+from sayhall.sayings import checked, is_from_one_to, put_together
 from sayhall.sharpest import sharpest
 
 
@@ -46,7 +46,7 @@ def has_only(saying, things):
 
 def forgotten(sayings, many, thing):
     good = checked(sayings, many)
-    if not is_whole(thing) or thing < 1 or thing > many:
+    if not is_from_one_to(thing, many):
         raise NoThing(f"a thing is a whole number from 1 to {many}")
     found = [saying for saying in good if thing not in saying and -thing not in saying]
     for one in [saying for saying in good if thing in saying]:

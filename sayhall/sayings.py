@@ -11,6 +11,10 @@ def is_whole(value):
     return isinstance(value, int) and not isinstance(value, bool)
 
 
+def is_from_one_to(value, most):
+    return is_whole(value) and value >= 1 and value <= most
+
+
 def is_saying(thing, many):
     if not isinstance(thing, tuple):
         return False
@@ -33,7 +37,7 @@ def is_case(thing, many):
 
 def checked(sayings, many):
     # The words of these errors show nothing that was handed in: not everything can be shown.
-    if not is_whole(many) or many < 1 or many > MOST_THINGS:
+    if not is_from_one_to(many, MOST_THINGS):
         raise NoSayings(f"the number of things must be whole, from 1 to {MOST_THINGS}")
     if not isinstance(sayings, list):
         raise NoSayings("sayings must be a list")

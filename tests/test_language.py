@@ -199,6 +199,33 @@ def constant_faults(node):
     return []
 
 
+def power_faults(node):
+    if not isinstance(node.op, ast.Pow):
+        return []
+    written = isinstance(node.right, ast.Constant) and node.right.value in range(65)
+    return [] if written else ["L27 power"]
+
+
+def handler_faults(node):
+    if node.type is None:
+        return ["L6 except without a name"]
+    kinds = node.type.elts if isinstance(node.type, ast.Tuple) else [node.type]
+    bad = {"Exception", "TypeError"}
+    return ["L19 except"] if any(isinstance(kind, ast.Name) and kind.id in bad for kind in kinds) else []
+
+
+def local_faults(tree):
+    """Parameters and locals that are called like a class or an import of their file."""
+    imports = [node for node in tree.body if isinstance(node, ast.ImportFrom)]
+    taken = {alias.asname or alias.name for node in imports for alias in node.names}
+    taken |= {node.name for node in tree.body if isinstance(node, ast.ClassDef)}
+    found = set()
+    for node in ast.walk(tree):
+        if isinstance(node, (ast.FunctionDef, ast.Lambda)):
+            found |= bound_names(node) & taken
+    return [f"L15 local {name}" for name in sorted(found)]
+
+
 def import_faults(node):
     good = node.level == 0 and (node.module == "__future__" or (node.module or "").startswith("sayhall."))
     return [] if good and all(alias.name != "*" for alias in node.names) else ["L2 import"]
@@ -221,7 +248,7 @@ def statement_faults(node):
 FAULTS_BY_NODE = (
     (ast.FunctionDef, def_faults), (ast.Lambda, def_faults), (ast.ClassDef, class_faults), (ast.Call, call_faults),
     (ast.Compare, is_faults), (ast.Constant, constant_faults), (ast.ImportFrom, import_faults),
-    ((ast.stmt, ast.ListComp), statement_faults),
+    ((ast.stmt, ast.ListComp), statement_faults), (ast.BinOp, power_faults), (ast.ExceptHandler, handler_faults),
 )
 
 
@@ -257,7 +284,7 @@ def name_faults(tree):
 def faults_of(text, methods=frozenset()):
     tree = ast.parse(text)
     faults = text_faults(text) + top_faults(tree) + name_faults(tree)
-    faults += attribute_faults(tree, methods | method_names(tree)) + walk_faults(tree)
+    faults += attribute_faults(tree, methods | method_names(tree)) + walk_faults(tree) + local_faults(tree)
     for node in ast.walk(tree):
         if not isinstance(node, ALLOWED_NODES) or isinstance(node, UNUSED_NODES):
             faults.append(f"L6 or L7 {node.__class__.__name__}")
@@ -303,7 +330,8 @@ class Language(unittest.TestCase):
 
 class TheCheckItself(unittest.TestCase):
     def test_good_text_has_no_faults(self):
-        self.assertEqual(faults_of('"""Words."""\n\nMOST = 3\n\n\ndef least(xs):\n    return min(xs, default=MOST)\n'), [])
+        text = '"""Words."""\n\nMOST = 3\n\n\ndef least(xs):\n    return min(xs, default=MOST)\n'
+        self.assertEqual(faults_of(text), [])
 
     def test_own_methods(self):
         text = "class A:\n    def __init__(self):\n        self.x = 1\n\n    def way(self):\n        return self.x\n"
@@ -340,6 +368,11 @@ class TheCheckItself(unittest.TestCase):
             "def f(a):\n    a.sort()\n", "def _f(a):\n    return a\n", "def f(id):\n    return id\n", "x = 1\nx = 2\n",
             "class A:\n    x = 1\n", "def f(a):\n    assert a\n", "x = '50%'\n", "x = 1  # \u00e9\n", "x =\t1\n",
             "def f(a):\n    return (x for x in a)\n", "def f(a):\n    with a:\n        pass\n", "x = b'1'\n",
+            "from sayhall.errors import Clash\n\n\ndef f(Clash):\n    return Clash\n", "def f(a):\n    return 2 ** a\n",
+            "class A:\n    pass\n\n\ndef f(a):\n    A = a\n    return A\n", "x = 2 ** 65\n",
+            "def f(a):\n    try:\n        return a[0]\n    except TypeError:\n        return 0\n",
+            "def f(a):\n    try:\n        return a[0]\n    except (KeyError, Exception):\n        return 0\n",
+            "def f(a):\n    try:\n        return a[0]\n    except:\n        return 0\n",
             "def f(a):\n" + "    a = a\n" * 40, "x = " + "1" * 120 + "\n", "x = 1\n" * 401,
         ]:
             with self.subTest(text=text[:60]):
